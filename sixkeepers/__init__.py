@@ -1,0 +1,1 @@
+"""Sixkeepers: facts of yes and no, and what keeps them."""

@@ -1,0 +1,157 @@
+"""The form of the code: those rules of the language that a plain look at the files can hold them to."""
+
+import ast
+import builtins
+import pathlib
+import unittest
+
+PACKAGE = pathlib.Path(__file__).resolve().parent.parent / "sixkeepers"
+LIBRARY = {"heapq", "math", "itertools", "collections"}
+LET_BUILTINS = set(
+    "len range enumerate zip min max sum abs sorted reversed int str bool bytes list tuple dict set frozenset isinstance ord "
+    "repr any all divmod pow getattr hasattr setattr iter next map super property staticmethod classmethod Exception ValueError "
+    "TypeError KeyError IndexError LookupError ZeroDivisionError ArithmeticError OverflowError RuntimeError "
+    "NotImplementedError StopIteration NotImplemented type object".split()
+)
+BARRED_NAMES = set(
+    "register mro elements open input law version_info with_traceback add_note attrgetter breakpoint compile copyright "
+    "credits delattr dir eval exec exit gc globals help id importlib license locals methodcaller os quit vars sys".split()
+)
+BARRED_NODES = (
+    ast.AsyncFunctionDef, ast.AsyncFor, ast.AsyncWith, ast.Await, ast.Div, ast.MatMult, ast.GeneratorExp, ast.Import,
+)
+
+
+def files():
+    return sorted(PACKAGE.iterdir())
+
+
+def sources():
+    return {path.name: path.read_text(encoding="utf-8") for path in files() if path.suffix == ".py"}
+
+
+def trees():
+    return {name: ast.parse(text) for name, text in sources().items()}
+
+
+def nodes(kind):
+    for name, tree in trees().items():
+        for node in ast.walk(tree):
+            if isinstance(node, kind):
+                yield name, node
+
+
+def bound_names(node):
+    """The names that a node binds."""
+    if isinstance(node, (ast.FunctionDef, ast.ClassDef)):
+        return [node.name]
+    if isinstance(node, ast.arg):
+        return [node.arg]
+    if isinstance(node, ast.Name) and isinstance(node.ctx, ast.Store):
+        return [node.id]
+    return []
+
+
+class Files(unittest.TestCase):
+    def test_folder(self):
+        for path in files():
+            if path.name != "__pycache__":
+                self.assertRegex(path.name, r"\A[a-z_][a-z0-9_]*\.py\Z")
+        self.assertIn("__init__.py", [path.name for path in files()])
+
+    def test_signs_and_lengths(self):
+        for name, text in sources().items():
+            lines = text.split("\n")
+            self.assertLessEqual(len(lines), 400, name)
+            self.assertTrue(all(sign == "\n" or " " <= sign <= "~" for sign in text), name)
+            self.assertLessEqual(max(map(len, lines)), 120, name)
+            self.assertNotIn("\\x", text)
+
+    def test_functions(self):
+        for name, node in nodes(ast.FunctionDef):
+            self.assertLessEqual(node.end_lineno - node.lineno + 1, 40, (name, node.name))
+
+
+class Imports(unittest.TestCase):
+    def test_form(self):
+        for name, node in nodes(ast.ImportFrom):
+            self.assertEqual(node.level, 0)
+            self.assertTrue(all(alias.asname is None and alias.name != "*" for alias in node.names))
+            self.assertTrue(node.module in LIBRARY or node.module.startswith("sixkeepers."), (name, node.module))
+
+    def test_names_are_defined_where_they_come_from(self):
+        for name, node in nodes(ast.ImportFrom):
+            if node.module in LIBRARY:
+                continue
+            tree = trees()[node.module.removeprefix("sixkeepers.") + ".py"]
+            defined = [word for one in tree.body for word in top_names(one)]
+            for alias in node.names:
+                self.assertIn(alias.name, defined, name)
+
+    def test_each_import_is_used(self):
+        for name, node in nodes(ast.ImportFrom):
+            used = {one.id for one in ast.walk(trees()[name]) if isinstance(one, ast.Name)}
+            for alias in node.names:
+                self.assertIn(alias.name, used, name)
+
+    def test_no_two_files_import_from_each_other(self):
+        needs = {}
+        for name, node in nodes(ast.ImportFrom):
+            if node.module not in LIBRARY:
+                needs.setdefault(name, set()).add(node.module.removeprefix("sixkeepers.") + ".py")
+        done = set()
+        while len(done) < len(sources()):
+            ready = {name for name in sources() if needs.get(name, set()) <= done} - done
+            self.assertTrue(ready, "files import from each other")
+            done |= ready
+
+
+def top_names(node):
+    if isinstance(node, ast.Assign):
+        return [target.id for target in node.targets]
+    return [node.name] if isinstance(node, (ast.FunctionDef, ast.ClassDef)) else []
+
+
+class Code(unittest.TestCase):
+    def test_module_level(self):
+        for name, tree in trees().items():
+            self.assertIsInstance(tree.body[0], ast.Expr, name)
+            bound = []
+            for node in tree.body[1:]:
+                self.assertIsInstance(node, (ast.ImportFrom, ast.Assign, ast.FunctionDef, ast.ClassDef), name)
+                bound += [alias.name for alias in node.names] if isinstance(node, ast.ImportFrom) else top_names(node)
+            self.assertEqual(len(bound), len(set(bound)), name)
+
+    def test_what_is_not_let(self):
+        for name, node in nodes(BARRED_NODES):
+            self.fail((name, node.lineno, type(node).__name__))
+        for name, node in nodes(ast.Constant):
+            self.assertNotIsInstance(node.value, (float, complex), name)
+        for name, node in nodes(ast.BinOp):
+            if isinstance(node.op, ast.Pow):
+                self.assertIsInstance(node.right, ast.Constant, (name, node.lineno))
+
+    def test_names(self):
+        for name, tree in trees().items():
+            taken = {alias.name for node in tree.body if isinstance(node, ast.ImportFrom) for alias in node.names}
+            taken |= {node.name for node in tree.body if isinstance(node, ast.ClassDef)}
+            for node in ast.walk(tree):
+                for word in bound_names(node):
+                    self.assertNotIn(word, vars(builtins), name)
+                    self.assertNotIn(word, BARRED_NAMES, name)
+                    if not isinstance(node, ast.ClassDef):
+                        self.assertNotIn(word, taken, (name, node.lineno))
+
+    def test_builtins(self):
+        for name, node in nodes(ast.Name):
+            if isinstance(node.ctx, ast.Load) and node.id in vars(builtins):
+                self.assertIn(node.id, LET_BUILTINS, (name, node.lineno))
+
+    def test_docstrings(self):
+        for name, node in nodes((ast.FunctionDef, ast.ClassDef)):
+            if node.name != "__init__":
+                self.assertIsNotNone(ast.get_docstring(node), (name, node.name))
+
+
+if __name__ == "__main__":
+    unittest.main()
