@@ -20,6 +20,16 @@ def numbered_row(number, many):
     return tuple([(number >> (many - 1 - place)) & 1 for place in range(many)])
 
 
+def all_rows(many):
+    """All rows of many items, ascending."""
+    return [numbered_row(number, many) for number in range(1 << many)]
+
+
+def bits_of(number):
+    """The places of the bits of the number that are 1, ascending."""
+    return tuple([bit for bit in range(number.bit_length()) if (number >> bit) & 1 == 1])
+
+
 def thing_count(operation):
     """Of how many things the operation is."""
     return len(operation).bit_length() - 1

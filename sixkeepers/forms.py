@@ -70,6 +70,11 @@ def are_unknowns(value, unknowns):
     return isinstance(value, tuple) and all([is_between(item, 0, unknowns - 1) for item in value])
 
 
+def are_places(value, many):
+    """Whether the value is an ascending tuple of integers from 0 to many - 1."""
+    return are_unknowns(value, many) and is_ascending(value)
+
+
 def is_fact(stock, unknowns, value):
     """Whether the value is a fact of the stock about so many unknowns."""
     if not is_tuple_of(value, 2):

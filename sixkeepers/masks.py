@@ -14,11 +14,12 @@ def all_mask(many):
 
 def side_masks(many):
     """For each place the masks of the rows of many items that have 0 there, and 1."""
+    every = all_mask(many)
     sides = []
     for place in range(many):
-        bit = 1 << (many - 1 - place)
-        ones = sum([1 << number for number in range(1 << many) if number & bit > 0])
-        sides.append((all_mask(many) ^ ones, ones))
+        # Blocks of as many ones as the place weighs, with as many noughts between them.
+        zeros = every // ((1 << (1 << (many - 1 - place))) + 1)
+        sides.append((zeros, every ^ zeros))
     return sides
 
 
@@ -33,6 +34,19 @@ def let_mask(rows, places, sides, mask):
         if found == mask:
             return mask
     return found
+
+
+def facts_mask(stock, facts, sides, mask):
+    """The mask of those rows of a mask that are let by all of the facts."""
+    for index, places in facts:
+        mask = let_mask(stock[index][1], places, sides, mask)
+    return mask
+
+
+def answers_mask(case):
+    """The mask of the answers of the case."""
+    stock, unknowns, facts = case
+    return facts_mask(stock, facts, side_masks(unknowns), all_mask(unknowns))
 
 
 def columns(rows, many):

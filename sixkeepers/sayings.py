@@ -1,11 +1,12 @@
 """Which relations facts of a stock can say, and what bars the others."""
 
 from sixkeepers.bounds import MAX_ARITY, MAX_FACTS, MAX_SMALL, MAX_UNKNOWNS
-from sixkeepers.closing import numbered_row
+from sixkeepers.closing import all_rows, numbered_row
 from sixkeepers.errors import NotOne, Unfit
 from sixkeepers.forms import are_unknowns, is_ascending, is_between, is_fact, is_tuple_of
+from sixkeepers.grouping import joined
 from sixkeepers.keepers import keeps_all
-from sixkeepers.masks import all_mask, columns, columns_of, kept_mask, let_mask, side_masks, stock_mask
+from sixkeepers.masks import all_mask, columns, columns_of, facts_mask, kept_mask, let_mask, side_masks, stock_mask
 
 MAX_THINGS = 3
 
@@ -35,12 +36,9 @@ def gadget_relation(stock, gadget):
     """The relation that the gadget says."""
     unknowns, facts, places = gadget
     sides = side_masks(unknowns)
-    mask = all_mask(unknowns)
-    for index, spots in facts:
-        mask = let_mask(stock[index][1], spots, sides, mask)
+    mask = facts_mask(stock, facts, sides, all_mask(unknowns))
     arity = len(places)
-    rows = [numbered_row(number, arity) for number in range(1 << arity)]
-    return (arity, tuple([row for row in rows if let_mask((row,), places, sides, mask) != 0]))
+    return (arity, tuple([row for row in all_rows(arity) if let_mask((row,), places, sides, mask) != 0]))
 
 
 def constant_keeper(stock):
@@ -90,9 +88,8 @@ def subsets(rows):
 def all_sayable(stock, places):
     """All relations of so many places that the stock can say, ascending."""
     masks = stock_masks(stock)
-    rows = [numbered_row(number, places) for number in range(1 << places)]
     found = []
-    for chosen in sorted(subsets(rows)):
+    for chosen in sorted(subsets(all_rows(places))):
         relation = (places, chosen)
         if len(chosen) == 0:
             bar = constant_keeper(stock)
@@ -115,12 +112,6 @@ def around(stock, rows):
             facts.append((index, places))
     gadget = (1 << len(rows), tuple(sorted(facts)), columns_of(rows))
     return (gadget_relation(stock, gadget), gadget)
-
-
-def joined(lots, one, other):
-    """The lots in which those of both unknowns are one; a lot is told by its least unknown."""
-    low = min(lots[one], lots[other])
-    return [low if lot in (lots[one], lots[other]) else lot for lot in lots]
 
 
 def drawn_lots(case, gadgets):

@@ -4,7 +4,7 @@ An operation of so many things is here the row of its values; its number is
 that of this row.
 """
 
-from sixkeepers.closing import applied, closure, numbered_row, row_number, thing_count
+from sixkeepers.closing import all_rows, applied, closure, numbered_row, row_number, thing_count
 from sixkeepers.forms import bounded_error, is_between, is_tuple_of
 from sixkeepers.keepers import keeps
 
@@ -13,8 +13,7 @@ MAX_BARRING = 8
 
 def plain_things(many):
     """The numbers of the operations of many things that give a thing itself, the first thing first."""
-    values = [numbered_row(number, many) for number in range(1 << many)]
-    return [row_number([row[thing] for row in values]) for thing in range(many)]
+    return [row_number([row[thing] for row in all_rows(many)]) for thing in range(many)]
 
 
 def reached(operations, many, wanted):

@@ -158,3 +158,231 @@ def same(one, other):
     if isinstance(one, (tuple, list)):
         return len(one) == len(other) and all(same(a, b) for a, b in zip(one, other))
     return one == other
+
+
+SIX = {
+    "low": (0, 0), "high": (1, 1), "both": (0, 0, 0, 1), "either": (0, 1, 1, 1), "most": (0, 0, 0, 1, 0, 1, 1, 1),
+    "odd": (0, 1, 1, 0, 1, 0, 0, 1),
+}
+FIRM = ("both", "either", "most", "odd")
+
+# Kept by none of the six, by "low" alone, by "high" alone.
+NO_WAY = (EXAMPLES["T"],)
+LOW_ONLY = ((3, ((0, 0, 0), (0, 1, 1), (1, 0, 1))), (2, ((0, 0), (0, 1), (1, 0))))
+HIGH_ONLY = ((3, ((0, 1, 0), (1, 0, 0), (1, 1, 1))), (2, ((0, 1), (1, 0), (1, 1))))
+
+
+def rows_but(arity, *out):
+    return (arity, tuple(row for row in all_rows(arity) if row not in out))
+
+
+def rows_of_sum(arity, value):
+    return (arity, tuple(row for row in all_rows(arity) if sum(row) % 2 == value))
+
+
+# Stocks each of which just the one keeper keeps, and by whose facts little is told at first.
+TYPICAL = {
+    "both": (rows_but(3, (1, 1, 0)), rows_but(2, (1, 0)), rows_but(3, (1, 1, 1)), rows_but(2, (1, 1)), (1, ((1,),))),
+    "either": (rows_but(3, (0, 0, 1)), rows_but(2, (1, 0)), rows_but(3, (0, 0, 0)), rows_but(2, (0, 0)), (1, ((0,),))),
+    "most": (rows_but(2, (0, 0)), rows_but(2, (0, 1)), rows_but(2, (1, 1)), rows_but(2, (1, 0))),
+    "odd": (rows_of_sum(3, 0), rows_of_sum(3, 1), rows_of_sum(4, 0), rows_of_sum(4, 1), rows_of_sum(2, 1)),
+}
+
+
+def kept_stock(chance, words, arities=(1, 2, 2, 3, 3, 4, 5), most=4):
+    """A stock that the keepers of these names keep (and perhaps further ones)."""
+    if len(words) == 1 and words[0] in TYPICAL and chance.random() < 0.4:
+        return TYPICAL[words[0]]
+    stock = []
+    many = chance.randint(1, most)
+    while len(stock) < many:
+        start = some_relation(chance, chance.choice(arities), 1, chance.choice((1, 2, 3, 4, 6)))
+        relation = hull(start, tuple(SIX[word] for word in words))
+        if len(relation[1]) <= 12:
+            stock.append(relation)
+    return tuple(stock)
+
+
+def all_subsets(numbers):
+    """All ascending tuples of some of the numbers, ascending."""
+    return sorted(some for many in range(len(numbers) + 1) for some in itertools.combinations(numbers, many))
+
+
+def all_clauses(many):
+    found = []
+    for signs in itertools.product((None, 0, 1), repeat=many):
+        found.append(tuple(tuple(k for k in range(many) if signs[k] == sign) for sign in (1, 0)))
+    return sorted(found)
+
+
+def holds_clause(clause, row):
+    return any(row[k] == 1 for k in clause[0]) or any(row[k] == 0 for k in clause[1])
+
+
+def within(one, other):
+    return set(one[0]) <= set(other[0]) and set(one[1]) <= set(other[1])
+
+
+def clauses_rows(many, clauses):
+    return tuple(row for row in all_rows(many) if all(holds_clause(clause, row) for clause in clauses))
+
+
+def some_clause(chance, many, most=3):
+    places = chance.sample(range(many), min(many, chance.randint(0 if chance.random() < 0.02 else 1, most)))
+    yes = {place for place in places if chance.random() < 0.5}
+    return (tuple(sorted(yes)), tuple(sorted(set(places) - yes)))
+
+
+def all_sums(many):
+    return [(places, value) for places in all_subsets(range(many)) for value in (0, 1)]
+
+
+def some_sum(chance, many, most):
+    return (tuple(sorted(chance.sample(range(many), chance.randint(0, min(many, most))))), chance.randint(0, 1))
+
+
+def holds_sum(one, row):
+    return sum(row[k] for k in one[0]) % 2 == one[1]
+
+
+def sums_rows(many, sums):
+    return tuple(row for row in all_rows(many) if all(holds_sum(one, row) for one in sums))
+
+
+def added(sums):
+    """All of the sums, added one by one."""
+    places, value = set(), 0
+    for one in sums:
+        places ^= set(one[0])
+        value ^= one[1]
+    return (tuple(sorted(places)), value)
+
+
+def is_reduced(sums):
+    if sums == (((), 1),):
+        return True
+    if not all(one[0] for one in sums):
+        return False
+    heads = [max(one[0]) for one in sums]
+    if heads != sorted(set(heads)):
+        return False
+    return all(head not in one[0] for head, own in zip(heads, sums) for one in sums if one is not own)
+
+
+def agreeing(case, fact, known):
+    index, places = case[2][fact]
+    found = []
+    for row in case[0][index][1]:
+        values = {}
+        for unknown, item in list(known) + list(zip(places, row)):
+            values.setdefault(unknown, set()).add(item)
+        if all(len(items) == 1 for items in values.values()):
+            found.append(row)
+    return tuple(found)
+
+
+def tells(case, fact, known):
+    """All pairs that the fact tells beside what is known."""
+    rows = agreeing(case, fact, known)
+    places = case[2][fact][1]
+    found = []
+    for unknown in sorted(set(places) - {other for other, _ in known}):
+        items = {row[at] for row in rows for at in range(len(places)) if places[at] == unknown}
+        if len(items) == 1:
+            found.append((unknown, items.pop()))
+    return found
+
+
+def follow(case, known, chance):
+    """What is known in the end, by facts in any order, None if one clashes."""
+    known = list(known)
+    while True:
+        facts = list(range(len(case[2])))
+        chance.shuffle(facts)
+        if any(not agreeing(case, fact, known) for fact in facts):
+            return None
+        told = [pair for fact in facts for pair in tells(case, fact, known)]
+        if not told:
+            return tuple(sorted(known))
+        known.append(chance.choice(told))
+
+
+def is_chain(case, known, value):
+    steps, end = value
+    known = list(known)
+    for fact, unknown, item in steps:
+        if (unknown, item) not in tells(case, fact, known):
+            return False
+        known.append((unknown, item))
+    if end is None:
+        return all(agreeing(case, fact, known) and not tells(case, fact, known) for fact in range(len(case[2])))
+    return not agreeing(case, end, known)
+
+
+def is_refutation(case, value, known=()):
+    """By the words of the document, for values of the right form."""
+    if value[0] == "clash":
+        return value[2] is not None and is_chain(case, known, value[1:])
+    if value[0] == "split":
+        unknown = value[1]
+        if unknown in [other for other, _ in known]:
+            return False
+        return all(is_refutation(case, value[2 + item], tuple(known) + ((unknown, item),)) for item in (0, 1))
+    for fact, one in value[1]:
+        places = case[2][fact][1]
+        for row in agreeing(case, fact, ()):
+            values = dict(zip(places, row))
+            if not set(one[0]) <= set(places) or sum(values[unknown] for unknown in one[0]) % 2 != one[1]:
+                return False
+    return added([one for _, one in value[1]]) == ((), 1)
+
+
+def lot_case(case, lot):
+    return case[:2] + (tuple(case[2][number] for number in lot),)
+
+
+def seen(rows, places):
+    return {tuple(row[k] for k in places) for row in rows}
+
+
+class Blocks:
+    """A great case made of small ones that have no unknown in common, so that its answers can be told.
+
+    case is the great one; parts are pairs of the unknowns of a small one, ascending, and its answers.
+    """
+
+    def __init__(self, chance, stock, sizes, most):
+        unknowns = list(range(sum(sizes)))
+        chance.shuffle(unknowns)
+        facts = []
+        lots = []
+        for size in sizes:
+            lots.append(sorted(unknowns[:size]))
+            del unknowns[:size]
+            for index, places in some_case(chance, stock, size, most)[2]:
+                facts.append((index, tuple(lots[-1][k] for k in places)))
+        chance.shuffle(facts)
+        self.case = (stock, sum(sizes), tuple(facts))
+        self.parts = [(lot, answers((stock, len(lot), self.within(lot)))) for lot in lots]
+
+    def within(self, lot):
+        """The facts of the lot, with its unknowns counted from 0 on."""
+        return tuple((index, tuple(lot.index(k) for k in places)) for index, places in self.case[2] if places[0] in lot)
+
+    def numbers(self, lot):
+        """The numbers of the facts of the lot."""
+        return [number for number, fact in enumerate(self.case[2]) if fact[1][0] in lot]
+
+    def has_answers(self):
+        return all(rows for _, rows in self.parts)
+
+    def seen(self, places):
+        """The rows that answers have at the places."""
+        if not self.has_answers():
+            return set()
+        found = [{}]
+        for lot, rows in self.parts:
+            here = [k for k in lot if k in places]
+            shown = seen(rows, [lot.index(k) for k in here])
+            found = [{**values, **dict(zip(here, row))} for values in found for row in shown]
+        return {tuple(values[k] for k in places) for values in found}

@@ -29,6 +29,41 @@ FUNCTIONS = {
         "broken_by": "stock relation", "all_sayable": "stock places", "around": "stock rows",
         "expanded": "case stock gadgets",
     },
+    "clauses": {
+        "clause_error": "many value", "holds_clause": "clause row", "is_within": "one other", "said": "arity clauses",
+        "primes": "relation", "form": "relation word", "says": "relation value", "fewest": "relation",
+        "case_clauses": "case word",
+    },
+    "making": {"reach": "many clauses clause", "reaches": "many clauses clause value"},
+    "sums": {
+        "sum_error": "many value", "holds_sum": "one row", "added_sum": "one other", "reduced": "sums",
+        "sums_of": "relation", "said_sums": "arity sums", "sum_paper": "sums wanted",
+        "sum_paper_holds": "sums wanted value", "free_places": "many sums", "sum_row": "many sums values",
+        "sum_count": "many sums", "case_sums": "case",
+    },
+    "following": {
+        "agreeing": "case fact known", "follow": "case known", "chain": "case known", "chain_holds": "case known value",
+    },
+    "solving": {
+        "answer": "case", "refute": "case", "refutes": "case value", "answer_with": "case known",
+        "least_answer": "case", "greatest_answer": "case",
+    },
+    "follows": {
+        "forced": "case", "alike": "case", "seen_rows": "case places", "follows": "case relation places",
+        "against": "case relation places", "needless": "case", "trimmed": "case", "pieces": "case",
+        "between": "case lot", "core": "case", "core_holds": "case value", "drop_holds": "case value",
+        "cores": "case", "drops": "case", "fewest_drop": "case", "reason": "case unknown",
+        "reasons": "case unknown", "reason_holds": "case unknown value",
+    },
+    "counting": {
+        "count": "case", "answer_at": "case number", "number_of": "case value", "answers": "case",
+        "yes_counts": "case", "spread": "case", "nearest": "case wish", "farthest": "case wish",
+        "cheapest": "case costs",
+    },
+    "turns": {
+        "turns_error": "case value", "won": "case turns", "won_from": "case turns begin",
+        "good": "case turns begin", "hinges": "case turns",
+    },
 }
 
 
@@ -58,6 +93,22 @@ class Interface(unittest.TestCase):
         self.assertTrue(made_holds(value=("steps", ()), operation=(0, 1), operations=()))
         told = expanded(gadgets=((1, ((0, (0,)),), (0,)),), stock=case[0], case=case)
         self.assertEqual(told, ((case[0], 1, ()), (0,)))
+
+    def test_by_name_further_on(self):
+        from sixkeepers.counting import cheapest
+        from sixkeepers.follows import follows
+        from sixkeepers.making import reaches
+        from sixkeepers.solving import answer_with
+        from sixkeepers.sums import sum_row
+        from sixkeepers.turns import good
+        relation = (1, ((1,),))
+        case = ((relation,), 1, ())
+        self.assertEqual(cheapest(costs=(-3,), case=case), (-3, (1,)))
+        self.assertIs(follows(places=(0,), relation=relation, case=case), False)
+        self.assertIs(reaches(value=("row", (0,)), clause=((0,), ()), clauses=(), many=1), True)
+        self.assertEqual(answer_with(known=((0, 1),), case=case), (1,))
+        self.assertEqual(sum_row(values=(1,), sums=(), many=1), (1,))
+        self.assertEqual(good(begin=(), turns=("all",), case=((relation,), 1, ((0, (0,)),))), (0,))
 
 
 if __name__ == "__main__":

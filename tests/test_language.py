@@ -17,6 +17,10 @@ BARRED_NAMES = set(
     "register mro elements open input law version_info with_traceback add_note attrgetter breakpoint compile copyright "
     "credits delattr dir eval exec exit gc globals help id importlib license locals methodcaller os quit vars sys".split()
 )
+BARRED_ATTRIBUTES = set(
+    "items keys values pop update append clear extend insert remove reverse setdefault sort args encode decode hex "
+    "fromhex format as_integer_ratio bit_count conjugate from_bytes is_integer to_bytes".split()
+)
 BARRED_NODES = (
     ast.AsyncFunctionDef, ast.AsyncFor, ast.AsyncWith, ast.Await, ast.Div, ast.MatMult, ast.GeneratorExp, ast.Import,
 )
@@ -146,6 +150,25 @@ class Code(unittest.TestCase):
         for name, node in nodes(ast.Name):
             if isinstance(node.ctx, ast.Load) and node.id in vars(builtins):
                 self.assertIn(node.id, LET_BUILTINS, (name, node.lineno))
+
+    def test_attributes(self):
+        for name, node in nodes(ast.Attribute):
+            if isinstance(node.ctx, ast.Store):
+                self.assertNotIn(node.attr, BARRED_ATTRIBUTES, (name, node.lineno))
+                self.assertIsInstance(node.value, ast.Name, (name, node.lineno))
+        for name, node in nodes(ast.ClassDef):
+            methods = {one.name for one in node.body if isinstance(one, ast.FunctionDef)}
+            kept = {
+                one.attr for one in ast.walk(node) if isinstance(one, ast.Attribute) and isinstance(one.ctx, ast.Store)
+            }
+            self.assertFalse(methods & kept, (name, node.name))
+
+    def test_generators(self):
+        makers = [node.name for _, node in nodes(ast.FunctionDef) if any(isinstance(one, ast.Yield) for one in ast.walk(node))]
+        self.assertEqual(makers, ["answers"])
+        for name, node in nodes(ast.Call):
+            if isinstance(node.func, ast.Name):
+                self.assertNotIn(node.func.id, makers, (name, node.lineno))
 
     def test_docstrings(self):
         for name, node in nodes((ast.FunctionDef, ast.ClassDef)):
