@@ -76,3 +76,8 @@ def placed_number(one, places):
     for place in one[0]:
         number = number ^ pair_number(places[place], 0)
     return number
+
+
+def placed_sum(one, places):
+    """The sum of places with the unknown at each of them in its stead; one that comes twice goes out."""
+    return numbered_sum(placed_number(one, places))

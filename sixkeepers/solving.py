@@ -1,6 +1,6 @@
 """Answers of a case, or a refutation that shows that it has none."""
 
-from sixkeepers.bounds import MAX_HARD
+from sixkeepers.bounds import MAX_HARD, MAX_SMALL
 from sixkeepers.closing import bits_of
 from sixkeepers.errors import TooHard
 from sixkeepers.following import agreeing, is_chain
@@ -29,6 +29,14 @@ def firm_case_word(case):
     """The name of what makes the case's stock firm, None for a small one that is not, TooHard for a great one."""
     word = firm_word(case[0])
     check_hard(case, word)
+    return word
+
+
+def firm_or_small_word(case):
+    """The name of what makes the case's stock firm, None for a small case of another stock, otherwise TooHard."""
+    word = firm_word(case[0])
+    if word is None and case[1] > MAX_SMALL:
+        raise TooHard(case[1])
     return word
 
 

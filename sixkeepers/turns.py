@@ -4,7 +4,7 @@ from sixkeepers.bounds import MAX_SMALL
 from sixkeepers.errors import TooHard
 from sixkeepers.forms import is_tuple_of
 from sixkeepers.games import winners, wins
-from sixkeepers.solvers import firm_word
+from sixkeepers.solving import firm_or_small_word
 
 
 def turns_error(case, value):
@@ -17,14 +17,6 @@ def turns_error(case, value):
     return None
 
 
-def playable_word(case):
-    """The name of what makes the case's stock firm, None for a small one that is not, TooHard for a great one."""
-    word = firm_word(case[0])
-    if word is None and case[1] > MAX_SMALL:
-        raise TooHard(case[1])
-    return word
-
-
 def won(case, turns):
     """Whether the game is won."""
     return won_from(case, turns, ())
@@ -32,12 +24,12 @@ def won(case, turns):
 
 def won_from(case, turns, begin):
     """Whether the beginning is won."""
-    return wins(playable_word(case), case, turns, begin)
+    return wins(firm_or_small_word(case), case, turns, begin)
 
 
 def good(case, turns, begin):
     """The values with which the one whose turn it is stays the winner."""
-    word = playable_word(case)
+    word = firm_or_small_word(case)
     wanted = turns[len(begin)] == "some"
     return tuple([value for value in (0, 1) if wins(word, case, turns, begin + (value,)) == wanted])
 

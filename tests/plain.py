@@ -203,6 +203,19 @@ def kept_stock(chance, words, arities=(1, 2, 2, 3, 3, 4, 5), most=4):
     return tuple(stock)
 
 
+def sparse_stock(chance, words, arities=(2, 3, 3, 4)):
+    """A stock that the keepers of these names keep, in which rows are far from one another: so answers are, too."""
+    stock = []
+    while len(stock) < 2:
+        arity = chance.choice(arities)
+        rows = [row for row in all_rows(arity) if sum(row) % 2 == len(stock)]
+        start = (arity, tuple(sorted(chance.sample(rows, min(len(rows), chance.randint(2, 3))))))
+        relation = hull(start, tuple(SIX[word] for word in words))
+        if len(relation[1]) <= 12 and (len(islands_among(relation[1])) > 1 or chance.random() < 0.05):
+            stock.append(relation)
+    return tuple(stock)
+
+
 def all_subsets(numbers):
     """All ascending tuples of some of the numbers, ascending."""
     return sorted(some for many in range(len(numbers) + 1) for some in itertools.combinations(numbers, many))
@@ -386,3 +399,182 @@ class Blocks:
             shown = seen(rows, [lot.index(k) for k in here])
             found = [{**values, **dict(zip(here, row))} for values in found for row in shown]
         return {tuple(values[k] for k in places) for values in found}
+
+
+class Played:
+    """All games of a small case, played plainly; wins tells for each beginning whether it is won."""
+
+    def __init__(self, case, turns):
+        found = set(answers(case))
+        self.wins = {row: row in found for row in all_rows(case[1])}
+        for many in range(case[1] - 1, -1, -1):
+            for begin in all_rows(many):
+                ends = [self.wins[begin + (value,)] for value in (0, 1)]
+                self.wins[begin] = any(ends) if turns[many] == "some" else all(ends)
+
+    def good(self, begin, word):
+        return tuple(value for value in (0, 1) if self.wins[begin + (value,)] == (word == "some"))
+
+
+def some_turns(chance, many, share=0.5):
+    return tuple("all" if chance.random() < share else "some" for _ in range(many))
+
+
+def is_int(value, low, high):
+    return type(value) is int and low <= value <= high
+
+
+def is_tuple(value, many):
+    return type(value) is tuple and len(value) == many
+
+
+def is_number_of_fact(case, value):
+    return is_int(value, 0, len(case[2]) - 1)
+
+
+def is_row(value, many):
+    return is_tuple(value, many) and all(is_int(item, 0, 1) for item in value)
+
+
+def is_sum(many, value):
+    if not is_tuple(value, 2) or type(value[0]) is not tuple or not is_int(value[1], 0, 1):
+        return False
+    places = value[0]
+    return all(is_int(place, 0, many - 1) for place in places) and list(places) == sorted(set(places))
+
+
+def is_point(case, value):
+    return is_tuple(value, 2) and is_int(value[0], 0, case[1] - 1) and is_int(value[1], 0, 1)
+
+
+def leads_to(case, one, other):
+    """Whether, by some fact, the point one leads to the point other."""
+    for fact, (_, places) in enumerate(case[2]):
+        if one[0] in places and other[0] in places:
+            at = places.index(other[0])
+            if all(row[at] == other[1] for row in agreeing(case, fact, [one])):
+                return True
+    return False
+
+
+def is_tree(case, turns, begin, value):
+    if type(value) is int:
+        return is_number_of_fact(case, value) and not agreeing(case, value, list(enumerate(begin)))
+    if len(begin) == case[1] or not is_tuple(value, 3) or value[0] != turns[len(begin)]:
+        return False
+    if value[0] == "all":
+        return is_int(value[1], 0, 1) and is_tree(case, turns, begin + (value[1],), value[2])
+    return is_tree(case, turns, begin + (0,), value[1]) and is_tree(case, turns, begin + (1,), value[2])
+
+
+def is_losing_walk(case, turns, points):
+    if type(points) is not tuple or len(points) < 2 or not all(is_point(case, point) for point in points):
+        return False
+    if not all(leads_to(case, one, other) for one, other in zip(points, points[1:])):
+        return False
+    somes = {point for point in points if turns[point[0]] == "some"}
+    ends_of_all = turns[points[0][0]] == turns[points[-1][0]] == "all"
+    if points[0] != points[-1]:
+        return ends_of_all
+    if {unknown for unknown, value in somes if value == 0} & {unknown for unknown, value in somes if value == 1}:
+        return True
+    return ends_of_all and any(unknown < points[0][0] for unknown, _ in somes)
+
+
+def is_losing_sums(case, turns, items):
+    if type(items) is not tuple:
+        return False
+    made = []
+    for item in items:
+        if not is_tuple(item, 2) or not is_number_of_fact(case, item[0]):
+            return False
+        index, places = case[2][item[0]]
+        arity, rows = case[0][index]
+        if not is_sum(arity, item[1]) or not all(holds_sum(item[1], row) for row in rows):
+            return False
+        # One by one, so that an unknown that comes an even number of times goes out.
+        made += [((places[place],), 0) for place in item[1][0]] + [((), item[1][1])]
+    total = added(made)
+    return total == ((), 1) or (len(total[0]) > 0 and turns[total[0][-1]] == "all")
+
+
+def is_losing_halves(case, turns, other, unknown, steps, clash):
+    alls = [at for at, word in enumerate(turns) if word == "all"]
+    if not is_int(other, 0, 1) or type(steps) is not tuple:
+        return False
+    if unknown is not None and not (is_int(unknown, 0, case[1] - 1) and unknown in alls):
+        return False
+    held = {at: other for at in alls if at != unknown}
+    halves = [dict(held), dict(held)]
+    if unknown is not None:
+        halves[0][unknown], halves[1][unknown] = 0, 1
+    for step in steps:
+        if not is_tuple(step, 4) or not is_int(step[0], 0, 1) or not is_number_of_fact(case, step[1]):
+            return False
+        half, fact, target, value = step
+        places = case[2][fact][1]
+        if not is_int(target, 0, case[1] - 1) or not is_int(value, 0, 1) or target not in places:
+            return False
+        rows = agreeing(case, fact, halves[half].items())
+        if not rows or not all(row[places.index(target)] == value for row in rows):
+            return False
+        halves[half][target] = value
+        if unknown is not None and target < unknown:
+            halves[1 - half][target] = value
+    if not is_tuple(clash, 2) or not is_int(clash[0], 0, 1) or not is_number_of_fact(case, clash[1]):
+        return False
+    return not agreeing(case, clash[1], halves[clash[0]].items())
+
+
+def is_lost_paper(case, turns, value):
+    """By the words of the document, for any value."""
+    if type(value) is not tuple or len(value) < 2:
+        return False
+    if value[0] == "tree" and len(value) == 2:
+        return is_tree(case, turns, (), value[1])
+    if value[0] == "walk" and len(value) == 2:
+        return is_losing_walk(case, turns, value[1])
+    if value[0] == "sums" and len(value) == 2:
+        return is_losing_sums(case, turns, value[1])
+    return value[0] == "halves" and len(value) == 5 and is_losing_halves(case, turns, *value[1:])
+
+
+def changed(row, unknown):
+    return row[:unknown] + (1 - row[unknown],) + row[unknown + 1:]
+
+
+def steps_from(found, row):
+    """For each answer that is together with the row: over how few changes."""
+    far = {row: 0}
+    queue = [row]
+    for one in queue:
+        for unknown in range(len(row)):
+            other = changed(one, unknown)
+            if other in found and other not in far:
+                far[other] = far[one] + 1
+                queue.append(other)
+    return far
+
+
+def islands(case):
+    """All islands of a small case, ascending."""
+    return islands_among(answers(case))
+
+
+def islands_among(rows):
+    """The islands of the rows, ascending."""
+    rest = set(rows)
+    found = []
+    while rest:
+        island = set(steps_from(rest, min(rest)))
+        rest -= island
+        found.append(tuple(sorted(island)))
+    return tuple(sorted(found))
+
+
+def is_walk(case, value):
+    if type(value) is not tuple or len(value) == 0:
+        return False
+    if not all(is_row(row, case[1]) and holds(case[0], case[2], row) for row in value):
+        return False
+    return all(sum(a != b for a, b in zip(one, other)) == 1 for one, other in zip(value, value[1:]))

@@ -64,6 +64,15 @@ FUNCTIONS = {
         "turns_error": "case value", "won": "case turns", "won_from": "case turns begin",
         "good": "case turns begin", "hinges": "case turns",
     },
+    "turnpapers": {"lost_paper": "case turns"},
+    "turnchecker": {"is_lost_paper": "case turns value"},
+    "walks": {
+        "hops": "case row", "is_walk": "case value", "walk": "case one other", "walk_to": "case row unknown",
+    },
+    "islands": {
+        "together": "case one other", "low_end": "case row", "high_end": "case row", "island": "case row",
+        "islands": "case", "island_count": "case", "loose": "case",
+    },
 }
 
 
@@ -109,6 +118,21 @@ class Interface(unittest.TestCase):
         self.assertEqual(answer_with(known=((0, 1),), case=case), (1,))
         self.assertEqual(sum_row(values=(1,), sums=(), many=1), (1,))
         self.assertEqual(good(begin=(), turns=("all",), case=((relation,), 1, ((0, (0,)),))), (0,))
+
+    def test_papers_and_walks_by_name(self):
+        from sixkeepers.islands import island, together
+        from sixkeepers.turnchecker import is_lost_paper
+        from sixkeepers.turnpapers import lost_paper
+        from sixkeepers.walks import hops, is_walk, walk, walk_to
+        case = (((1, ((1,),)),), 2, ((0, (0,)),))
+        paper = lost_paper(turns=("all", "all"), case=case)
+        self.assertIs(is_lost_paper(value=paper, turns=("all", "all"), case=case), True)
+        self.assertEqual(hops(row=(1, 0), case=case), (1,))
+        self.assertEqual(walk(other=(1, 1), one=(1, 0), case=case), ((1, 0), (1, 1)))
+        self.assertEqual(walk_to(unknown=1, row=(1, 1), case=case), ((1, 1), (1, 0)))
+        self.assertIs(is_walk(value=((1, 0),), case=case), True)
+        self.assertIs(together(other=(1, 1), one=(1, 0), case=case), True)
+        self.assertEqual(island(row=(1, 1), case=case), ((1, 0), (1, 1)))
 
 
 if __name__ == "__main__":

@@ -4,7 +4,7 @@ import copy
 import unittest
 
 import plain
-from plain import EXAMPLES, FIRM, HIGH_ONLY, LOW_ONLY, NO_WAY, ODD_VALUES
+from plain import EXAMPLES, FIRM, HIGH_ONLY, LOW_ONLY, NO_WAY, ODD_VALUES, Played, some_turns
 from sixkeepers.errors import TooHard
 from sixkeepers.forms import is_answer
 from sixkeepers.keepers import kept_by
@@ -13,25 +13,6 @@ from sixkeepers.turns import good, hinges, turns_error, won, won_from
 N, L = (2, ((0, 1), (1, 0))), (2, ((0, 0), (0, 1), (1, 1)))
 T = ((N,), 2, ((0, (0, 1)),))
 KINDS = [("both",), ("either",), ("most",), ("odd",), ("most", "odd"), ("both", "either", "most")]
-
-
-def some_turns(chance, many, share=0.5):
-    return tuple("all" if chance.random() < share else "some" for _ in range(many))
-
-
-class Played:
-    """All games of a small case, played plainly; wins tells for each beginning whether it is won."""
-
-    def __init__(self, case, turns):
-        answers = set(plain.answers(case))
-        self.wins = {row: row in answers for row in plain.all_rows(case[1])}
-        for many in range(case[1] - 1, -1, -1):
-            for begin in plain.all_rows(many):
-                ends = [self.wins[begin + (value,)] for value in (0, 1)]
-                self.wins[begin] = any(ends) if turns[many] == "some" else all(ends)
-
-    def good(self, begin, word):
-        return tuple(value for value in (0, 1) if self.wins[begin + (value,)] == (word == "some"))
 
 
 def handed(turns, unknown):
