@@ -27,11 +27,15 @@ def missing_pair(solver, unknown):
     return None
 
 
+def forced_pairs(solver, unknowns):
+    """The pairs of all unknowns that have one value in all answers, of which there are some."""
+    missing = [missing_pair(solver, unknown) for unknown in range(unknowns)]
+    return tuple([(pair[0], 1 - pair[1]) for pair in missing if pair is not None])
+
+
 def forced(case):
     """The pairs of all unknowns that have one value in all answers."""
-    solver = open_solver(case)
-    missing = [missing_pair(solver, unknown) for unknown in range(case[1])]
-    return tuple([(pair[0], 1 - pair[1]) for pair in missing if pair is not None])
+    return forced_pairs(open_solver(case), case[1])
 
 
 def turn_between(solver, one, other):

@@ -41,7 +41,8 @@ def are_led(board, points):
 
 def has_both_values(turns, points):
     """Whether some unknown of "some" stands with both values among the points."""
-    return any([turns[unknown] == "some" and (unknown, 1 - value) in points for unknown, value in points])
+    of_some = [point for point in points if turns[point[0]] == "some"]
+    return len(set(of_some)) > len({unknown for unknown, _ in of_some})
 
 
 def has_some_ahead(turns, points, border):

@@ -578,3 +578,94 @@ def is_walk(case, value):
     if not all(is_row(row, case[1]) and holds(case[0], case[2], row) for row in value):
         return False
     return all(sum(a != b for a, b in zip(one, other)) == 1 for one, other in zip(value, value[1:]))
+
+
+def fact_sums(case):
+    """The sums that hold for all rows of a fact's relation, with the unknowns in the places' stead."""
+    found = []
+    for index, places in case[2]:
+        arity, rows = case[0][index]
+        for one in all_sums(arity):
+            if all(holds_sum(one, row) for row in rows):
+                found.append(added([((places[place],), 0) for place in one[0]] + [((), one[1])]))
+    return sorted(set(found))
+
+
+def makes(sums, wanted):
+    """Whether some of the sums, however many there are, make the wanted one."""
+    basis = []
+    for one in list(sums) + [wanted]:
+        rest = one
+        for head, other in basis:
+            if head in rest[0] or (head is None and rest[0] == () and rest[1] == 1):
+                rest = added([rest, other])
+        if rest == ((), 0):
+            if one is wanted:
+                return True
+            continue
+        if one is wanted:
+            return False
+        basis.append((rest[0][-1] if rest[0] else None, rest))
+    return wanted == ((), 0)
+
+
+def is_going(case, row, value, item):
+    """Whether the value is a walk from the row on that changes just this item, to where it can be changed no more."""
+    if not is_walk(case, value) or value[0] != row:
+        return False
+    for one, other in zip(value, value[1:]):
+        if [one[k] for k in range(case[1]) if one[k] != other[k]] != [item]:
+            return False
+    last = value[-1]
+    return not any(last[k] == item and holds(case[0], case[2], changed(last, k)) for k in range(case[1]))
+
+
+def is_ring(case, one, other, steps):
+    if type(steps) is not tuple or len(steps) < 2:
+        return False
+    for step in steps:
+        if not is_tuple(step, 3) or not is_point(case, step[:2]) or not is_number_of_fact(case, step[2]):
+            return False
+        if one[step[0]] == step[1] or other[step[0]] != step[1]:
+            return False
+    for (unknown, value, fact), (further, its, _) in zip(steps, steps[1:] + steps[:1]):
+        places = case[2][fact][1]
+        if unknown == further or unknown not in places or further not in places:
+            return False
+        for row in agreeing(case, fact, []):
+            if row[places.index(unknown)] == value and row[places.index(further)] != its:
+                return False
+    return True
+
+
+def is_island_parting(case, one, other, rows):
+    if type(rows) is not tuple:
+        return False
+    if not all(is_row(row, case[1]) and holds(case[0], case[2], row) for row in rows):
+        return False
+    if list(rows) != sorted(set(rows)) or one not in rows or other in rows:
+        return False
+    beside = [changed(row, k) for row in rows for k in range(case[1])]
+    return all(row in rows or not holds(case[0], case[2], row) for row in beside)
+
+
+def is_apart(case, one, other, value):
+    """By the words of the document, for any value."""
+    if type(value) is not tuple or len(value) < 2:
+        return False
+    if value[0] == "island" and len(value) == 2:
+        return is_island_parting(case, one, other, value[1])
+    if value[0] == "ring" and len(value) == 2:
+        return is_ring(case, one, other, value[1])
+    if value[0] == "sum" and len(value) == 2:
+        if not is_sum(case[1], value[1]) or all(one[k] == other[k] for k in value[1][0]):
+            return False
+        return makes(fact_sums(case), value[1])
+    if value[0] not in ("down", "up") or len(value) != 3:
+        return False
+    if not keeps_stock(SIX["both" if value[0] == "down" else "either"], case[0]):
+        return False
+    item = 1 if value[0] == "down" else 0
+    if not is_going(case, one, value[1], item) or not is_going(case, other, value[2], item):
+        return False
+    return value[1][-1] != value[2][-1]

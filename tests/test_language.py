@@ -2,6 +2,7 @@
 
 import ast
 import builtins
+import functools
 import pathlib
 import unittest
 
@@ -21,6 +22,12 @@ BARRED_ATTRIBUTES = set(
     "items keys values pop update append clear extend insert remove reverse setdefault sort args encode decode hex "
     "fromhex format as_integer_ratio bit_count conjugate from_bytes is_integer to_bytes".split()
 )
+OPERATORS = ("__getitem__", "__contains__", "__len__", "__iter__", "__str__", "__eq__")
+LET_METHODS = set(
+    "append clear copy count endswith extend find get index insert isalnum isalpha isdigit islower isspace isupper items "
+    "join keys ljust lower lstrip partition pop remove replace reverse rfind rjust rpartition rsplit rstrip setdefault "
+    "split splitlines startswith strip update upper values zfill bit_length".split()
+)
 BARRED_NODES = (
     ast.AsyncFunctionDef, ast.AsyncFor, ast.AsyncWith, ast.Await, ast.Div, ast.MatMult, ast.GeneratorExp, ast.Import,
 )
@@ -30,10 +37,12 @@ def files():
     return sorted(PACKAGE.iterdir())
 
 
+@functools.lru_cache(maxsize=None)
 def sources():
     return {path.name: path.read_text(encoding="utf-8") for path in files() if path.suffix == ".py"}
 
 
+@functools.lru_cache(maxsize=None)
 def trees():
     return {name: ast.parse(text) for name, text in sources().items()}
 
@@ -110,6 +119,15 @@ class Imports(unittest.TestCase):
             done |= ready
 
 
+def plain_methods(node):
+    return [one for one in node.body if isinstance(one, ast.FunctionDef) and not one.decorator_list]
+
+
+def is_set(node):
+    called = isinstance(node, ast.Call) and isinstance(node.func, ast.Name) and node.func.id == "set"
+    return called or isinstance(node, (ast.Set, ast.SetComp))
+
+
 def top_names(node):
     if isinstance(node, ast.Assign):
         return [target.id for target in node.targets]
@@ -162,6 +180,60 @@ class Code(unittest.TestCase):
                 one.attr for one in ast.walk(node) if isinstance(one, ast.Attribute) and isinstance(one.ctx, ast.Store)
             }
             self.assertFalse(methods & kept, (name, node.name))
+
+    def test_properties(self):
+        kept = {one.attr for _, one in nodes(ast.Attribute) if isinstance(one.ctx, ast.Store)}
+        methods = {one.name for _, node in nodes(ast.ClassDef) for one in plain_methods(node)}
+        for name, node in nodes(ast.ClassDef):
+            for one in node.body:
+                if isinstance(one, ast.FunctionDef) and one.decorator_list:
+                    self.assertEqual([ast.unparse(each) for each in one.decorator_list], ["property"])
+                    self.assertNotIn(one.name, kept | methods | BARRED_ATTRIBUTES, name)
+                    # Its docstring, and what it returns: so nothing is changed, nothing that is held is called.
+                    self.assertEqual([type(each) for each in one.body], [ast.Expr, ast.Return], (name, one.name))
+
+    def test_operators(self):
+        for name, node in nodes(ast.FunctionDef):
+            if node.name.startswith("__") and node.name != "__init__":
+                self.assertIn(node.name, OPERATORS, name)
+                for one in ast.walk(node):
+                    self.assertNotIsInstance(one, (ast.Assign, ast.AugAssign, ast.Try, ast.While, ast.For, ast.Delete))
+
+    def test_errors(self):
+        own = {node.name for _, node in nodes(ast.ClassDef) if any("Error" in ast.unparse(base) for base in node.bases)}
+        for name, node in nodes(ast.ExceptHandler):
+            self.assertIn(ast.unparse(node.type), own, name)
+        for name, node in nodes(ast.Raise):
+            if node.exc is not None:
+                self.assertIsInstance(node.exc, ast.Call)
+                self.assertIn(node.exc.func.id, own, name)
+        for name, node in nodes(ast.Try):
+            for one in node.finalbody:
+                self.assertIsInstance(one, ast.Assign)
+                self.assertIsInstance(one.value, (ast.Name, ast.Constant))
+
+    def test_methods_of_builtin_values(self):
+        own = {one.name for _, node in nodes(ast.ClassDef) for one in node.body if isinstance(one, ast.FunctionDef)}
+        for name, node in nodes(ast.Call):
+            if isinstance(node.func, ast.Attribute):
+                self.assertIn(node.func.attr, own | LET_METHODS, (name, node.lineno))
+                self.assertFalse(node.func.attr in LET_METHODS and node.keywords, (name, node.lineno))
+
+    def test_sets(self):
+        # A set stands where it is measured, sorted or looked into, or is the one value of a local variable.
+        for name, tree in trees().items():
+            for node in ast.walk(tree):
+                for one in ast.iter_child_nodes(node):
+                    if is_set(one):
+                        fit = isinstance(node, (ast.Compare, ast.BinOp, ast.Assign))
+                        fit = fit or isinstance(node, ast.Call) and node.func.id in ("sorted", "len")
+                        self.assertTrue(fit, (name, one.lineno))
+
+    def test_strings(self):
+        for name, node in nodes(ast.Constant):
+            if isinstance(node.value, str):
+                self.assertNotIn("%", node.value, (name, node.lineno))
+                self.assertNotIn("._", node.value, (name, node.lineno))
 
     def test_generators(self):
         makers = [node.name for _, node in nodes(ast.FunctionDef) if any(isinstance(one, ast.Yield) for one in ast.walk(node))]
