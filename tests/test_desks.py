@@ -220,7 +220,9 @@ class Edits(Case):
         for text in ("a", "z", "abcdefgh", "a1234567", "x1b", "x12", "x3"):
             desk.name(3, text)
             self.assertEqual(desk.names[3], text)
-        for text in [value for value in ODD_VALUES if value != "relation"] + ["", "A", "aB", "1", "1a", "abcdefghi", "a b", " a", "a ", "a\n", "a_", "a-b", "a.b", ("a",)]:
+        wrong = [value for value in ODD_VALUES if value != "relation"]
+        wrong += ["", "A", "aB", "1", "1a", "abcdefghi", "a b", " a", "a ", "a\n", "a_", "a-b", "a.b", ("a",)]
+        for text in wrong:
             self.assertError("BadText", (text,), lambda: desk.name(3, text))
             self.assertError("NoUnknown", (12,), lambda: desk.name(12, text))
         self.assertError("NotOne", ("x4",), lambda: desk.name(3, "x4"))

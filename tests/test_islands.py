@@ -9,6 +9,7 @@ from plain import EXAMPLES, FIRM, HIGH_ONLY, LOW_ONLY, NO_WAY
 from sixkeepers.errors import TooHard
 from sixkeepers.islands import high_end, island, island_count, islands, loose, low_end, together
 from sixkeepers.keepers import kept_by
+from sixkeepers.partings import apart
 from sixkeepers.solving import answer_with
 from sixkeepers.walks import hops
 
@@ -173,6 +174,28 @@ class Islands(unittest.TestCase):
                         break
                     row = plain.changed(row, chance.choice(fit))
                 self.assertEqual(row, right)
+
+    def test_together_by_a_way_about(self):
+        # From one to the other the first unknown must be changed, and changed back.
+        rows = ("00000", "00010", "00011", "01000", "01100", "10000", "10011", "11100")
+        bent = tuple(tuple(int(sign) for sign in row) for row in rows)
+        for item, word in ((0, "both"), (1, "either")):
+            turned = tuple(sorted(tuple(item ^ one for one in row) for row in bent))
+            stock = ((5, turned), plain.TYPICAL[word][1])
+            self.assertEqual(set(kept_by(stock)) & set(FIRM), {word})
+            ends = [tuple(item ^ one for one in row) for row in (bent[-1], bent[-2])]
+            for many in (1, 2, 8):
+                case = (stock, 5 * many, tuple((0, tuple(range(5 * k, 5 * k + 5))) for k in range(many)))
+                for one, other in ((ends[0], ends[1]), (ends[1], ends[0])):
+                    self.assertIs(together(case, one * many, other * many), True)
+                    self.assertIs(together(case, one * many, one * (many - 1) + other), True)
+                    self.assertIsNone(apart(case, one * many, other * many))
+            self.assertEqual(low_end(((stock[0],), 5, ((0, (0, 1, 2, 3, 4)),)), ends[0]), plain_low(turned))
+            # Without what leads about they are not together.
+            torn = tuple(row for row in turned if sum(row) != (3 if item else 2) or row[0] != item)
+            case = (((5, torn),), 5, ((0, (0, 1, 2, 3, 4)),))
+            self.assertIs(together(case, ends[0], ends[1]), False)
+            self.assertIsNotNone(apart(case, ends[0], ends[1]))
 
     def test_great_sums(self):
         chance = plain.chance_of(186)
