@@ -43,7 +43,7 @@ def all_barred(many):
     found = {((), ()): all_mask(many)}
     for place, (zeros, ones) in enumerate(side_masks(many)):
         wider = {}
-        for (yes, no), mask in found.items():
+        for (yes, no), mask in list(found.items()):
             wider[(yes, no)] = mask
             wider[(yes + (place,), no)] = mask & zeros
             wider[(yes, no + (place,))] = mask & ones

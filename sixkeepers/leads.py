@@ -56,7 +56,7 @@ def led_way(leads, one, other):
     queue = [one]
     while other not in ahead:
         further = []
-        for number in queue:
+        for number in list(queue):
             for fresh in bits_of(leads[number]):
                 if fresh not in ahead:
                     ahead[fresh] = number

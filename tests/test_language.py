@@ -28,6 +28,9 @@ LET_METHODS = set(
     "join keys ljust lower lstrip partition pop remove replace reverse rfind rjust rpartition rsplit rstrip setdefault "
     "split splitlines startswith strip update upper values zfill bit_length".split()
 )
+# What changes the thing whose method it is.
+CHANGING = set("append clear extend insert pop remove reverse setdefault update sort add discard".split())
+THROUGH = ("enumerate", "zip", "reversed", "iter")
 BARRED_NODES = (
     ast.AsyncFunctionDef, ast.AsyncFor, ast.AsyncWith, ast.Await, ast.Div, ast.MatMult, ast.GeneratorExp, ast.Import,
 )
@@ -63,6 +66,82 @@ def bound_names(node):
     if isinstance(node, ast.Name) and isinstance(node.ctx, ast.Store):
         return [node.id]
     return []
+
+
+def named(node):
+    """What a thing goes by: its name, ".field", or "[]" behind these for an item; a choice by that of each side."""
+    if isinstance(node, ast.Name):
+        return [node.id]
+    if isinstance(node, ast.Attribute):
+        return ["." + node.attr]
+    if isinstance(node, ast.Subscript) and not isinstance(node.slice, ast.Slice):
+        return [word + "[]" for word in named(node.value)]
+    if isinstance(node, ast.IfExp):
+        return named(node.body) + named(node.orelse)
+    if isinstance(node, ast.BoolOp):
+        return [word for one in node.values for word in named(one)]
+    return []
+
+
+def walked(node):
+    """What a loop over the node walks."""
+    if isinstance(node, ast.Call) and isinstance(node.func, ast.Name) and node.func.id in THROUGH:
+        return [word for one in node.args for word in walked(one)]
+    if isinstance(node, ast.Call) and isinstance(node.func, ast.Attribute) and node.func.attr in ("items", "keys", "values"):
+        return named(node.func.value)
+    return named(node)
+
+
+def pairs_of(target, value):
+    """The pairs of a target and a value of an assignment, those of parallel tuples one by one."""
+    if isinstance(target, ast.Tuple) and isinstance(value, ast.Tuple) and len(target.elts) == len(value.elts):
+        return [pair for each in zip(target.elts, value.elts) for pair in pairs_of(*each)]
+    return [(target, value)]
+
+
+def shared_names(tree):
+    """For each word the set of those that go by each other's names somewhere in the tree; others have none."""
+    lots = {}
+    for node in ast.walk(tree):
+        pairs = []
+        if isinstance(node, ast.Assign):
+            pairs = [pair for target in node.targets for pair in pairs_of(target, node.value)]
+        words = [(named(target), named(value)) for target, value in pairs]
+        if isinstance(node, (ast.For, ast.comprehension)):
+            words = [(named(node.target), [word + "[]" for word in walked(node.iter)])]
+        for targets, values in words:
+            for one in targets if values else []:
+                lot = set().union(*[lots.get(word, {word}) for word in [one] + values])
+                lots.update({word: lot for word in lot})
+    return lots
+
+
+def changes(node):
+    """What the node, without those within it, changes the items of."""
+    if isinstance(node, ast.Call) and isinstance(node.func, ast.Attribute) and node.func.attr in CHANGING:
+        return named(node.func.value)
+    if isinstance(node, ast.Call) and isinstance(node.func, ast.Name) and node.func.id.startswith("heap"):
+        return named(node.args[0])
+    if isinstance(node, ast.AugAssign):
+        return named(node.target) + [word.removesuffix("[]") for word in named(node.target)]
+    targets = node.targets if isinstance(node, (ast.Assign, ast.Delete)) else []
+    targets = [each for one in targets for each in (one.elts if isinstance(one, ast.Tuple) else [one])]
+    return [word for one in targets if isinstance(one, ast.Subscript) for word in named(one.value)]
+
+
+def changed_walks(tree):
+    """The pairs of the lines of a loop and of what in it changes, by whatever name, what the loop walks."""
+    found = []
+    for function in ast.walk(tree):
+        if isinstance(function, ast.FunctionDef):
+            lots = shared_names(function)
+            for loop in ast.walk(function):
+                body = loop.body if isinstance(loop, ast.For) else [loop] if hasattr(loop, "generators") else []
+                heads = [loop.iter] if isinstance(loop, ast.For) else [one.iter for one in getattr(loop, "generators", [])]
+                barred = {each for head in heads for word in walked(head) for each in lots.get(word, {word})}
+                inner = [node for one in body for node in ast.walk(one)]
+                found += [(loop.lineno, node.lineno) for node in inner if not barred.isdisjoint(changes(node))]
+    return found
 
 
 class Files(unittest.TestCase):
@@ -241,6 +320,37 @@ class Code(unittest.TestCase):
         for name, node in nodes(ast.Call):
             if isinstance(node.func, ast.Name):
                 self.assertNotIn(node.func.id, makers, (name, node.lineno))
+
+    def test_what_a_loop_walks_is_not_changed_in_it(self):
+        for name, tree in trees().items():
+            self.assertEqual(changed_walks(tree), [], name)
+
+    def test_changed_walks_are_seen(self):
+        wrong = (
+            "for x in xs:\n  xs.append(x)",
+            "for k, x in enumerate(xs):\n  xs[k] = 0",
+            "for k in d.keys():\n  del d[k]",
+            "for x in self.xs:\n  other.xs.pop()",
+            "for x in xs if x else ys:\n  ys.append(x)",
+            "for x in xs or ys:\n  xs += [x]",
+            "while xs:\n  ys = []\n  for x in xs:\n   ys.append(x)\n  xs = ys",
+            "while xs:\n  ys = {}\n  for k, x in xs.items():\n   ys[k] = x\n  xs = ys",
+            "xs, n = self.xs, 0\n for x in xs:\n  self.xs.append(x)",
+            "for xs in table:\n  for x in xs:\n   table[0].append(x)",
+            "return [xs.pop() for x in xs]",
+        )
+        right = (
+            "for x in list(xs):\n  xs.append(x)",
+            "for k in sorted(d):\n  del d[k]",
+            "for x in xs:\n  ys.append(x)",
+            "while xs:\n  ys = []\n  for x in list(xs):\n   ys.append(x)\n  xs = ys",
+            "while xs:\n  ys = []\n  for x in xs:\n   ys.append(x)\n  xs = list(ys)",
+            "for k, x in enumerate(xs):\n  ys[k] = [x]\n  ys[k].append(xs)",
+        )
+        for text in wrong:
+            self.assertNotEqual(changed_walks(ast.parse("def f(self):\n " + text)), [], text)
+        for text in right:
+            self.assertEqual(changed_walks(ast.parse("def f(self):\n " + text)), [], text)
 
     def test_docstrings(self):
         for name, node in nodes((ast.FunctionDef, ast.ClassDef)):
